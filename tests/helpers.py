@@ -43,6 +43,23 @@ INTERFACE = {
         "led": ("map_of", "point"), "map_between": ("ones", "others"), "bow_point": ("place",),
         "chord": ("one", "other"),
     },
+    "straight": {
+        "is_ruler": ("thing",), "mark": ("ruler", "place"), "is_straight": ("thing",),
+        "straight_relation": ("chart",), "straight_reads": ("chart", "places"), "judge_straight": ("cube",),
+        "straight_holds": ("cube", "thing"), "both_charts": ("cube",), "are_alike_charts": ("one", "other"),
+    },
+    "bent": {
+        "is_bent": ("thing",), "bent_relation": ("chart",), "bent_reads": ("chart", "places"),
+        "bent_chart": ("cube", "dial"), "bend_form": ("cube", "dial"),
+    },
+    "language": {
+        "names_in": ("text",), "read_relation": ("text",), "truth_of": ("text", "places"),
+        "written": ("relation", "names"),
+    },
+    "splits": {
+        "table_of": ("relation", "dials"), "rank_of": ("relation", "dials"), "judge_split": ("relation", "dials"),
+        "split_holds": ("relation", "dials", "thing"), "ranks": ("relation",),
+    },
 }
 
 DEEP = (((((([[[[[["x"]]]]]],),),),),),)

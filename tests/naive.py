@@ -195,3 +195,68 @@ def whole_holds(one, other, thing):
 def determinant(rows):
     (a, b, c), (d, e, f), (g, h, i) = rows
     return a * (e * i - f * h) - b * (d * i - f * g) + c * (d * h - e * g)
+
+
+def null_space(rows):
+    """A basis of the tuples of fractions that all rows lead to 0."""
+    rows = [[Fraction(entry) for entry in row] for row in rows]
+    count = len(rows[0])
+    pivots = []
+    for column in range(count):
+        at = len(pivots)
+        pivot = next((k for k in range(at, len(rows)) if rows[k][column]), None)
+        if pivot is None:
+            continue
+        rows[at], rows[pivot] = rows[pivot], rows[at]
+        rows[at] = [entry / rows[at][column] for entry in rows[at]]
+        for k in range(len(rows)):
+            if k != at and rows[k][column]:
+                rows[k] = [a - rows[k][column] * b for a, b in zip(rows[k], rows[at])]
+        pivots.append(column)
+    found = []
+    for free in [column for column in range(count) if column not in pivots]:
+        vector = [Fraction(0)] * count
+        vector[free] = Fraction(1)
+        for at, column in enumerate(pivots):
+            vector[column] = -rows[at][free]
+        found.append(vector)
+    return found
+
+
+def is_ruler(thing):
+    if type(thing) is not tuple or len(thing) != 2 or not all(is_ints(triple, 3) for triple in thing):
+        return False
+    return rank(thing) == 2
+
+
+def is_straight(thing):
+    if type(thing) is not tuple or len(thing) != 3 or not all(is_ruler(ruler) for ruler in thing):
+        return False
+    return rank([triple for ruler in thing for triple in ruler]) == 3
+
+
+def straight_relation(chart):
+    return short(tuple(determinant([ruler[bit] for ruler, bit in zip(chart, bits)]) for bits in bits_of(3)))
+
+
+def has_three_parts(cube):
+    return all(rank(table(cube, (dial,))) == 1 for dial in range(3))
+
+
+def straight_holds(cube, thing):
+    if type(thing) is not tuple or len(thing) != 2 or type(thing[0]) is not str:
+        return False
+    if thing[0] == "chart":
+        return is_straight(thing[1]) and straight_relation(thing[1]) == cube
+    if thing[0] != "none" or type(thing[1]) is not str:
+        return False
+    if thing[1] == "parts":
+        return has_three_parts(cube)
+    number = discriminant(form(cube, 0))
+    return thing[1] == "square" and (number < 0 or math.isqrt(number) ** 2 != number)
+
+
+def is_bent(thing):
+    if type(thing) is not tuple or len(thing) != 3 or not is_int(thing[0]) or thing[0] not in (0, 1, 2):
+        return False
+    return is_change(thing[1]) and is_ruler(thing[2])
