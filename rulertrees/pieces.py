@@ -1,11 +1,11 @@
 """The pieces of which a relation is the product."""
 
 from itertools import combinations
-from rulertrees.errors import BadSplit
+from rulertrees.errors import BadRelation, BadSplit
 from rulertrees.integers import shortened
 from rulertrees.items import count_dials, other_dials, table_rows
 from rulertrees.kinds import is_integers
-from rulertrees.relations import check_relation, root_place
+from rulertrees.relations import check_relation, check_three_dials, root_place
 
 
 def is_split(thing, many):
@@ -76,3 +76,10 @@ def parts(relation):
 def is_whole(relation):
     """Whether a relation has two dials or more and one piece alone."""
     return len(pieces(relation)) == 1 and count_dials(relation) > 1
+
+
+def check_whole(thing):
+    """Raises BadRelation with any value that is no whole relation of three dials or more."""
+    check_three_dials(thing)
+    if not is_whole(thing):
+        raise BadRelation(thing)

@@ -23,6 +23,12 @@ def check_relation(thing):
         raise BadRelation(thing)
 
 
+def check_three_dials(thing):
+    """Raises BadRelation with any value that is no relation of three dials or more."""
+    if not is_relation(thing) or count_dials(thing) < 3:
+        raise BadRelation(thing)
+
+
 def check_dial(dial, many):
     """Raises BadDial with any value that is no integer from 0 up and below so many."""
     if not is_integer(dial) or dial < 0 or dial >= many:

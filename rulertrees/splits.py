@@ -24,8 +24,8 @@ def rank_of(relation, dials):
 def splits_of(many, least):
     """The ascending list of the splits of so many dials that have the dial 0, at least so many on either side."""
     found = []
-    for size in range(least, many - least + 1):
-        for rest in combinations(range(1, many), size - 1):
+    for more in range(least - 1, many - least):
+        for rest in combinations(range(1, many), more):
             found.append((0,) + rest)
     return sorted(found)
 

@@ -60,6 +60,28 @@ INTERFACE = {
         "table_of": ("relation", "dials"), "rank_of": ("relation", "dials"), "judge_split": ("relation", "dials"),
         "split_holds": ("relation", "dials", "thing"), "ranks": ("relation",),
     },
+    "standards": {
+        "standard_relation": ("n", "s"), "standard_of": ("relation",), "to_standard": ("relation",),
+    },
+    "shapes": {
+        "is_shape": ("thing",), "tidy": ("shape",), "inner_split": ("shape", "dial"), "shapes": ("n",),
+        "shape_of_splits": ("n", "splits"),
+    },
+    "trees": {
+        "is_tree": ("thing",), "relation_of": ("tree",), "judge_shape": ("relation", "shape"),
+        "shape_holds": ("relation", "shape", "thing"), "fitting": ("relation",), "judge_trees": ("one", "other"),
+        "trees_hold": ("one", "other", "thing"),
+    },
+    "families": {
+        "good_splits": ("relation",), "strong_splits": ("relation",), "do_cross": ("n", "one", "other"),
+        "bundles_of": ("relation",), "knots_of": ("relation",), "many_shapes": ("relation",),
+    },
+    "hangings": {
+        "is_hanging": ("thing",), "relation_of_hanging": ("hanging",), "bundle_form": ("relation", "dial"),
+        "hanging_reads": ("hanging", "places"), "judge_hanging": ("relation",), "hangings_of": ("relation",),
+        "hanging_holds": ("relation", "thing"), "hung_anew": ("shape", "dial", "one", "other"),
+        "rehangings": ("relation", "one", "other"),
+    },
 }
 
 DEEP = (((((([[[[[["x"]]]]]],),),),),),)
