@@ -226,6 +226,7 @@ class JudgeTest(Case):
         for thing in NO_CUBES:
             self.fails(BadCube, {"thing": thing}, "judge_straight", thing)
             self.fails(BadCube, {"thing": thing}, "straight_holds", thing, ("none", "parts"))
+            self.fails(BadCube, {"thing": thing}, "straight_holds", thing, None)
             self.fails(BadCube, {"thing": thing}, "both_charts", thing)
 
 

@@ -327,6 +327,12 @@ class RelationsOfTextsTest(Case):
         self.fails(TooHigh, {"name": "a"}, "read_relation", "(a + b) / (a + b) * (a + b) / (a + b) = c")
         # Both pairs have the bottom x - 1 only if the sign of the bottom is taken out.
         self.gives(((0, 1, 1, 0), ("y", "x")), "read_relation", "y / (x - 1) + x / (x - 1) = 0")
+        # So do two pairs have the bottom x + y only if integers are taken out, and if names are.
+        self.gives(((0, 1, 1, 0), ("a", "b")), "read_relation", "2 * a / (2 * x + 2 * y) + b / (x + y) = 0")
+        self.gives(((0, 1, -1, 0), ("a", "b")), "read_relation", "a / (x - y) + b / (y - x) = 0")
+        self.gives(((0, 1, 1, 0), ("a", "b")), "read_relation", "a * x / (x * x + x * y) + b / (x + y) = 0")
+        self.gives(((0, 1, 0, 0, 0, 0, 1, 0), ("x", "y", "a")), "read_relation", "x * y / 6 + a / 6 = 0")
+        self.fails(TooHigh, {"name": "x"}, "read_relation", "a / (x + y) + b / (x + y) / (x + y) * (x + 1) = x")
         self.compare("1 / (1 - x) + y / (x - 1) = z / (-x + 1)")
         self.compare("1 / (y - x) = 2 / (x - y) + z")
         self.compare("1 / (2 - 2 * x * y) = 1 / (3 * x * y - 3) + z")
