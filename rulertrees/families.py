@@ -62,7 +62,7 @@ def bundles_of(relation):
 
 def class_of_bundle(relation, partition):
     """The s of the bundle with a partition."""
-    _, cube = cube_within(relation, tuple(sorted([dials[0] for dials in partition[:3]])))
+    _, cube = cube_within(relation, tuple(dials[0] for dials in partition[:3]))
     return class_of_cube(cube)
 
 

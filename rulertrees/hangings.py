@@ -104,10 +104,9 @@ def hung_anew(shape, dial, one, other):
     check_end(one, first, dial)
     check_end(other, second, dial)
     exchanged = {one: other, other: one}
-    nodes = [
-        tuple(sorted([exchanged.get(end, end) for end in node])) if dial in node else node for node in shape
-    ]
-    return tidied(tuple(nodes))
+    return tidied([
+        tuple(exchanged.get(end, end) for end in node) if dial in node else node for node in shape
+    ])
 
 
 def rehangings(relation, one, other):

@@ -26,6 +26,9 @@ NO_HANGINGS = [thing for thing in ODD_VALUES if not naive_trees.is_hanging(thing
     (((0, 1, 2),), PRODUCT), (((0, 1, 2),), ((0, -1, 0, 0, 0, 0, 1, 0),)), (((0, 1, 2),), ((0,) * 8,)),
     (((0, 1, 2),), (list(PRODUCT),)), (((0, 1, 2),), ((0, 1, 0, 0, 0, 0, -1, False),)), ((), ()),
     (((0, 1, 2, 3, 4, 5, 6),), ((1,) + (0,) * 127,)), (((0, 2, 1),), (PRODUCT,)), (((0, 1, 2), (0, 1, 2)), (PRODUCT,) * 2),
+    # Relations of other numbers of dials, nodes with two ends, with one and with an end twice.
+    (HANGING[0], (KNOT, KNOT)), (HANGING[0], (PRODUCT, PRODUCT)), (((0, 1, 3), (2, 3)), (PRODUCT, (0, 1, 1, 0))),
+    (((0, 1), (0, 1, 2)), ((0, 1, 1, 0), PRODUCT)), (((0, 1, 2, 3), (3,)), (KNOT, (1, 0))), (((0, 1, 2, 2),), (KNOT,)),
     # The inner splits, (0, 1, 2) and (0, 1), do not ascend.
     (((0, 1, 6), (2, 5, 6), (3, 4, 5)), (PRODUCT,) * 3)]
 
@@ -374,6 +377,10 @@ class AnewTest(Case):
             self.fails(BadShape, {"thing": thing}, "rehangings", OTHER, thing, fit)
             self.fails(BadShape, {"thing": thing}, "rehangings", OTHER, thing, None)
             self.fails(BadShape, {"thing": thing}, "rehangings", OTHER, fit, thing)
+        # For Python this equals a shape that fits.
+        equal = ((False, True, 4), (2, 3, 4))
+        self.fails(BadShape, {"thing": equal}, "rehangings", OTHER, equal, fit)
+        self.fails(BadShape, {"thing": equal}, "rehangings", OTHER, fit, equal)
         self.gives((fit,), "rehangings", OTHER, fit, fit)
         for other in renumberings(FIVE):
             if other != FIVE:
