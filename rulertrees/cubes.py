@@ -6,7 +6,7 @@ from rulertrees.items import in_order, other_dials
 from rulertrees.kinds import is_tuple_of, is_word, same_value
 from rulertrees.matrices import two_adjoint, two_product
 from rulertrees.normalcubes import to_normal
-from rulertrees.places import is_change
+from rulertrees.places import are_changes
 from rulertrees.relations import changed, check_dial, is_relation
 
 DIALS = (0, 1, 2)
@@ -77,17 +77,12 @@ def changes_between(ones, others):
     return tuple(shortened(two_product(one, two_adjoint(other))) for one, other in zip(ones, others))
 
 
-def is_three_changes(thing):
-    """Whether any value is a tuple of three changes."""
-    return is_tuple_of(thing, 3) and all(is_change(change) for change in thing)
-
-
 def alike_holds(one, other, thing):
     """Whether any value is a certificate for two cubes."""
     check_cube(one)
     check_cube(other)
     if is_tuple_of(thing, 2) and is_word(thing[0], "alike"):
-        return is_three_changes(thing[1]) and changed(one, thing[1]) == other
+        return are_changes(thing[1], 3) and changed(one, thing[1]) == other
     if is_tuple_of(thing, 3) and is_word(thing[0], "unlike"):
         sorts = (sort_of(one), sort_of(other))
         return sorts[0] != sorts[1] and same_value(thing[1:], sorts)

@@ -77,12 +77,16 @@ def splits_at(frame):
     return tuple(split_at(frame, dial) for dial in inner_dials(frame))
 
 
+def node_behind(frame, at, dial):
+    """The number of the node that an inner dial ties to the node of a number."""
+    return [other for other, node in enumerate(frame) if dial in node and other != at][0]
+
+
 def behind_end(frame, at, end):
     """The ascending tuple of the outer dials that stand behind an end of the node of a number."""
     if end < outer_of(frame):
         return (end,)
-    other = [k for k, node in enumerate(frame) if end in node and k != at][0]
-    return outer_behind(frame, other, end)
+    return outer_behind(frame, node_behind(frame, at, end), end)
 
 
 def tidied(frame):

@@ -9,7 +9,7 @@ from rulertrees.items import count_dials
 from rulertrees.joints import hung_on, relation_of_nodes
 from rulertrees.kinds import is_integer, is_tuple_of, is_word
 from rulertrees.pieces import check_whole, falls_apart, is_split, is_whole, pieces
-from rulertrees.relations import check_dial, check_places, check_relation, check_three_dials, holds, is_relation
+from rulertrees.relations import check_dial, check_places, check_three_dials, holds, is_relation
 from rulertrees.settings import cube_within
 from rulertrees.shapes import check_inner_dial, check_shape, is_shape
 from rulertrees.standards import has_low_ranks

@@ -4,12 +4,10 @@ from rulertrees.errors import AlwaysTrue, BadNames, BadPlaces, ByZero, FarPart, 
 from rulertrees.integers import shortened
 from rulertrees.items import bit_span, count_dials
 from rulertrees.kinds import is_tuple_of
-from rulertrees.places import is_place
+from rulertrees.places import FAR, are_places
 from rulertrees.quotients import constant, evaluated, name_itself
 from rulertrees.relations import MOST_DIALS, check_relation
 from rulertrees.words import INTEGER, heading_and_equation, in_postfix, is_name, names_of_words
-
-FAR = (1, 0)
 
 
 def names_in(text):
@@ -74,7 +72,7 @@ def truth_of(text, places):
     """Whether the equation of a text is true at places of its names; None if it is without meaning there."""
     words = heading_and_equation(text)[1]
     names = names_of_words(words)
-    if not is_tuple_of(places, len(names)) or not all(is_place(place) and place != FAR for place in places):
+    if not are_places(places, len(names)) or FAR in places:
         raise BadPlaces(places)
     leaves = integer_leaves(words, 0)
     for name, place in zip(names, places):

@@ -3,11 +3,13 @@
 from math import gcd
 from rulertrees.errors import AllZero, BadChange, BadPlace
 from rulertrees.integers import shortened
-from rulertrees.kinds import is_integers
+from rulertrees.kinds import is_integers, is_tuple_of
 from rulertrees.matrices import two_adjoint, two_determinant, two_product
 
 # The change that moves nothing.
 STAY = (1, 0, 0, 1)
+# The far place.
+FAR = (1, 0)
 
 
 def is_place(thing):
@@ -15,7 +17,7 @@ def is_place(thing):
     if not is_integers(thing, 2):
         return False
     a, b = thing
-    return gcd(a, b) == 1 and (b > 0 or thing == (1, 0))
+    return gcd(a, b) == 1 and (b > 0 or thing == FAR)
 
 
 def place_of(a, b):
@@ -31,6 +33,16 @@ def place_of(a, b):
 def is_change(thing):
     """Whether any value is a change."""
     return is_integers(thing, 4) and two_determinant(thing) != 0
+
+
+def are_places(thing, many):
+    """Whether any value is a tuple of just so many places."""
+    return is_tuple_of(thing, many) and all(is_place(place) for place in thing)
+
+
+def are_changes(thing, many):
+    """Whether any value is a tuple of just so many changes."""
+    return is_tuple_of(thing, many) and all(is_change(change) for change in thing)
 
 
 def check_place(thing):

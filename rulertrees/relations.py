@@ -3,8 +3,8 @@
 from rulertrees.errors import BadChanges, BadDial, BadOrder, BadPlaces, BadRelation, TooManyDials
 from rulertrees.integers import is_short, shortened
 from rulertrees.items import count_dials, in_order, with_changes, with_place
-from rulertrees.kinds import is_integer, is_integers, is_tuple_of
-from rulertrees.places import is_change, is_place, place_of
+from rulertrees.kinds import is_integer, is_integers
+from rulertrees.places import are_changes, are_places, place_of
 
 MOST_DIALS = 6
 LENGTHS = (2, 4, 8, 16, 32, 64)
@@ -37,7 +37,7 @@ def check_dial(dial, many):
 
 def check_places(places, many):
     """Raises BadPlaces with any value that is no tuple of just so many places."""
-    if not is_tuple_of(places, many) or not all(is_place(place) for place in places):
+    if not are_places(places, many):
         raise BadPlaces(places)
 
 
@@ -87,7 +87,7 @@ def root_place(pair):
 def changed(relation, changes):
     """The relation that holds at places if the relation holds where the changes move them."""
     check_relation(relation)
-    if not is_tuple_of(changes, count_dials(relation)) or not all(is_change(change) for change in changes):
+    if not are_changes(changes, count_dials(relation)):
         raise BadChanges(changes)
     return shortened(with_changes(relation, changes))
 

@@ -8,9 +8,9 @@ from rulertrees.integers import shortened
 from rulertrees.items import count_dials
 from rulertrees.joints import all_joined, hung_on, relation_of_nodes
 from rulertrees.kinds import is_tuple_of, is_word, same_value
-from rulertrees.places import STAY, is_change
+from rulertrees.places import STAY, are_changes
 from rulertrees.relations import changed, check_three_dials
-from rulertrees.shapes import check_inner_dial, is_shape, shapes_among
+from rulertrees.shapes import is_shape, shapes_among
 from rulertrees.splits import judge_split, rank_of, split_holds, splits_of
 
 
@@ -21,10 +21,15 @@ def is_tree(thing):
     return all(is_cube(cube) for cube in thing[1])
 
 
+def check_tree(thing):
+    """Raises BadTree with any value that is no tree."""
+    if not is_tree(thing):
+        raise BadTree(thing)
+
+
 def relation_of(tree):
     """The relation of a tree, None if it is open."""
-    if not is_tree(tree):
-        raise BadTree(tree)
+    check_tree(tree)
     shape, cubes = tree
     return relation_of_nodes(shape, cubes)
 
@@ -120,9 +125,7 @@ def trees_hold(one, other, thing):
     """Whether any value is a certificate for two trees of one shape."""
     check_two_trees(one, other)
     if is_tuple_of(thing, 2) and is_word(thing[0], "alike"):
-        if not is_tuple_of(thing[1], len(inner_dials(one[0]))) or not all(is_change(change) for change in thing[1]):
-            return False
-        return cubes_changed(other, thing[1]) == one[1]
+        return are_changes(thing[1], len(inner_dials(one[0]))) and cubes_changed(other, thing[1]) == one[1]
     if is_tuple_of(thing, 3) and is_word(thing[0], "relations"):
         relations = (relation_of(one), relation_of(other))
         return relations[0] != relations[1] and same_value(thing[1:], relations)

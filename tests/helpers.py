@@ -82,6 +82,25 @@ INTERFACE = {
         "hanging_holds": ("relation", "thing"), "hung_anew": ("shape", "dial", "one", "other"),
         "rehangings": ("relation", "one", "other"),
     },
+    "passages": {
+        "reads": ("tree", "places"), "passage": ("tree", "places"), "passage_holds": ("tree", "places", "thing"),
+        "free_dials": ("tree", "places"), "last_read": ("tree", "dial", "places"),
+    },
+    "rings": {
+        "is_ring": ("thing",), "passes": ("ring",), "round_at": ("ring", "seam"), "ring_form": ("ring", "seam"),
+        "ring_number": ("ring",), "edge_form": ("ring", "link"), "begun_at": ("ring", "seam"),
+        "turned_round": ("ring",), "seams_changed": ("ring", "changes"),
+    },
+    "standings": {
+        "is_standing": ("ring", "thing"), "judge_ring": ("ring",), "ring_holds": ("ring", "thing"),
+        "standing_with": ("ring", "seam", "place"),
+    },
+    "toldback": {
+        "products": ("reading",), "freedom": ("n", "sheet"), "agreeing": ("n", "sheet"),
+        "only_relation": ("n", "sheet"), "next_reading": ("n", "sheet"), "keen_question": ("n", "sheet"),
+        "is_keen": ("n", "sheet", "thing"), "told": ("n", "sheet", "question", "answer"),
+        "judge_follows": ("n", "sheet", "reading"), "follows_holds": ("n", "sheet", "reading", "thing"),
+    },
 }
 
 DEEP = (((((([[[[[["x"]]]]]],),),),),),)
