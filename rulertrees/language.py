@@ -1,5 +1,6 @@
 """Texts of relations: read, true or false at places, and written."""
 
+from rulertrees.decimals import written_integer
 from rulertrees.errors import AlwaysTrue, BadNames, BadPlaces, ByZero, FarPart, NeverTrue, TooHigh, TooManyNames
 from rulertrees.integers import shortened
 from rulertrees.items import bit_span, count_dials
@@ -95,7 +96,7 @@ def written_term(number, names):
     """A term of a written relation, without its sign."""
     factors = list(names)
     if abs(number) != 1 or not factors:
-        factors.insert(0, str(abs(number)))
+        factors.insert(0, written_integer(abs(number)))
     return " * ".join(factors)
 
 

@@ -3,6 +3,7 @@
 import copy
 import importlib
 import unittest
+from rulertrees.workshops import Workshop
 
 # The interface of DOC.md: the parameters of each function, under the module that lists it.
 INTERFACE = {
@@ -101,8 +102,36 @@ INTERFACE = {
         "is_keen": ("n", "sheet", "thing"), "told": ("n", "sheet", "question", "answer"),
         "judge_follows": ("n", "sheet", "reading"), "follows_holds": ("n", "sheet", "reading", "thing"),
     },
+    "inspite": {
+        "relations_in_spite": ("n", "sheet", "w"), "judge_spite": ("n", "sheet", "w", "reading"),
+        "spite_holds": ("n", "sheet", "w", "reading", "thing"),
+    },
+    "grids": {
+        "is_grid": ("thing",), "is_closed": ("grid",), "first_open": ("grid",), "are_orders": ("thing",),
+        "standard_grid": ("orders",), "judge_grid": ("grid",), "grid_holds": ("grid", "thing"),
+        "orders_of": ("grid",), "many_certificates": ("grid",),
+    },
+    "renaming": {
+        "judge_renamed": ("one", "other"), "renamed_holds": ("one", "other", "thing"),
+    },
+    "fillings": {
+        "is_partial": ("thing",), "judge_filling": ("grid",), "filling_holds": ("grid", "thing"),
+        "filling": ("grid",),
+    },
+    "workshops": {
+        "read_workshop": ("text",),
+    },
+}
+# The methods of a workshop, with their parameters.
+METHODS = {
+    "relation": (), "names": (), "shape": (), "places": (), "put": ("name", "place"), "clear": ("name",),
+    "turn": ("name", "change"), "swap": ("one", "other"), "choose": ("shape",), "drop": (), "last": ("name",),
+    "undo": (), "redo": (), "copied": (), "text": (), "is_same": ("thing",),
 }
 
+# "Any value" may also be, or contain, a workshop.
+SHOP = Workshop((0, 1, 0, 0, 0, 0, -1, 0), ("x", "y", "z"))
+SHOP.put("x", (2, 1))
 DEEP = (((((([[[[[["x"]]]]]],),),),),),)
 
 # Values of every kind that "any value" names; some of them are nearly right for some function.
@@ -118,6 +147,8 @@ ODD_VALUES = (
     (1,) + (0,) * 127, (0,) * 64, (0,) * 3000, {"alike": 1}, ("alike",), ("alike", ()), ("unlike", (), ()),
     ("alike", None), ("unlike", ("parts",), ("parts",)), ("whole", ()), ("apart", 0, (), ()), (["full", 1],), DEEP,
     (1, 0, 0, 0, 1, 0, 0, 0, 0), (1, 0, 0, 0, 1, 0, 0, 0, True), [1, 0, 0, 0, 1, 0, 0, 0, 1],
+    SHOP, (SHOP,), [SHOP], {"a": SHOP}, (1, SHOP), (SHOP, 1), (1, 0, SHOP), (1, 0, 0, SHOP), (SHOP, SHOP, SHOP),
+    (0, 1, 1, 0, 1, 0, 0, SHOP), (SHOP,) * 8, ((1, 0), SHOP, (0, 1)), ("alike", SHOP), ("cubes", SHOP), (SHOP, ()),
 )
 
 
@@ -145,12 +176,14 @@ def exact(one, other):
         return len(one) == len(other) and all(exact(a, b) for a, b in zip(one, other))
     if isinstance(one, dict):
         return exact(list(one.items()), list(other.items()))
+    if isinstance(one, Workshop):
+        return exact(vars(one), vars(other))
     return one == other
 
 
 def otherwise_values(thing):
     """The value with one thing otherwise, at any depth; some results may equal it for Python."""
-    yield from (None, True, [thing], (thing,), "x")
+    yield from (None, True, [thing], (thing,), "x", SHOP)
     if isinstance(thing, bool):
         yield int(thing)
     elif isinstance(thing, int):

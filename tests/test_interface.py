@@ -1,4 +1,4 @@
-"""Every name of the interface stands in its own file, with its parameters."""
+"""Every name of the interface stands in its own file, with its parameters; the methods are tested with workshops."""
 
 import importlib
 import inspect
