@@ -1,14 +1,14 @@
 """Closed grids that are renamed from one another."""
 
 from rulertrees.errors import BadGrid, OtherSizes
-from rulertrees.grids import is_closed, is_grid, is_line, named_grid, orders_of
+from rulertrees.grids import is_closed, is_line, named_grid, orders_of
 from rulertrees.kinds import is_tuple_of, is_word, same_value
 
 
 def check_two_grids(one, other):
     """Raises BadGrid with the first one that is no closed grid, OtherSizes if the sizes are unlike."""
     for grid in (one, other):
-        if not is_grid(grid) or not is_closed(grid):
+        if not is_closed(grid):
             raise BadGrid(grid)
     if len(one) != len(other):
         raise OtherSizes()

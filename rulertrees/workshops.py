@@ -3,7 +3,7 @@
 from rulertrees.decimals import integer_of, written_integer
 from rulertrees.errors import BadNames, BadPlace, BadShape, BadText, DoesNotFit, DoesNotHold, NoName, NotTheLast
 from rulertrees.errors import NothingToRedo, NothingToUndo
-from rulertrees.frames import outer_of, tidied
+from rulertrees.frames import tidied
 from rulertrees.items import count_dials
 from rulertrees.language import are_names
 from rulertrees.matrices import two_adjoint
@@ -49,7 +49,7 @@ class Workshop:
 
     def dial_of(self, name):
         """The dial with a name."""
-        if not isinstance(name, str) or name not in self.names():
+        if name not in self.names():
             raise NoName(name)
         return self.names().index(name)
 
@@ -91,8 +91,9 @@ class Workshop:
 
     def choose(self, shape):
         """Takes a tidy shape that fits."""
-        if not is_shape(shape) or outer_of(shape) != len(self.names()) or tidied(shape) != shape:
+        if not is_shape(shape) or tidied(shape) != shape:
             raise BadShape(shape)
+        # This raises BadShape, too, if the shape has another number of outer dials.
         certificate = judge_shape(self.relation(), shape)
         if certificate[0] == "inner":
             raise DoesNotFit(certificate)

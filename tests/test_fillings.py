@@ -121,6 +121,58 @@ class FillingTest(Case):
                                   (kind, told[1:]), (kind, told[::-1])):
                         self.gives(naive_grids.filling_holds(grid, thing), "filling_holds", grid, thing)
 
+    def test_each_figure_alone(self):
+        chance = random.Random(8)
+        seen = {"row": 0, "column": 0, "both": 0, "entries": 0, "fills": 0, "nothing": 0}
+        for n in (2, 3, 4, 4):
+            for _ in range(80):
+                grid = random_partial(chance, n, chance.choice((n * n, 2 * n * n)))
+                told = [(figure, naive_grids.deed(grid, figure)) for figure in naive_grids.figures(grid)]
+                active = [one for one in told if one[1] is not None]
+                for figure, done in chance.sample(active, min(len(active), 12)) + told[::99]:
+                    self.gives(done == "clash", "filling_holds", grid, ("clash", (figure,)))
+                    thing = ("filled", (figure,))
+                    self.gives(naive_grids.filling_holds(grid, thing), "filling_holds", grid, thing)
+                    seen[self.kind_of(grid, figure, done)] += 1
+                    self.check_last(chance, grid, figure, done)
+        self.assertGreater(min(seen.values()), 10, seen)
+
+    def kind_of(self, grid, figure, done):
+        """How a figure clashes: by the row or the column of the empty cell, by both, or by two entries; what it does else."""
+        _, x2, x3, _, y2, y3 = figure
+        cells = [(x, y) for x, y in ((x2, y3), (x3, y2)) if grid[x][y] is None]
+        if done != "clash":
+            return "fills" if done else "nothing"
+        if not cells:
+            return "entries"
+        x, y = cells[0]
+        entry = grid[x2][y3] if grid[x3][y2] is None else grid[x3][y2]
+        in_row, in_column = entry in grid[x], entry in [row[y] for row in grid]
+        return "both" if in_row and in_column else "row" if in_row else "column"
+
+    def check_last(self, chance, grid, figure, done):
+        """Behind a figure, any six numbers: figures or none, also with rows and columns that do not exist."""
+        n = len(grid)
+        for _ in range(3):
+            other = tuple(chance.randrange(-1, n + (chance.random() < 0.2)) for _ in range(6))
+            for figures in ((other,), (figure, other), (other, figure)):
+                for kind in ("filled", "clash"):
+                    expected = naive_grids.filling_holds(grid, (kind, figures))
+                    self.gives(expected, "filling_holds", grid, (kind, figures))
+
+    def test_equations_of_empty_cells(self):
+        # The entries of the equations are all None, and those of the last two cells differ.
+        grid = ((None, None, None), (None, 0, 1), (None, 2, None))
+        self.assertNotIn((0, 1, 2, 0, 1, 2), list(naive_grids.figures(grid)))
+        for kind in ("filled", "clash"):
+            self.gives(False, "filling_holds", grid, (kind, ((0, 1, 2, 0, 1, 2),)))
+            self.gives(False, "filling_holds", grid, (kind, ((0, 2, 1, 0, 2, 1),)))
+        # The entries of one equation are None.
+        grid = ((None, None, 0), (None, None, 1), (0, 2, None))
+        for kind in ("filled", "clash"):
+            self.gives(False, "filling_holds", grid, (kind, ((0, 1, 2, 0, 1, 2),)))
+            self.gives(False, "filling_holds", grid, (kind, ((0, 2, 1, 0, 2, 1),)))
+
     def test_one_thing_otherwise(self):
         right = 0
         for grid in (SMALL, CLASH, ((None,),), TWO, ((0, 1), (None, None))):

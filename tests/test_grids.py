@@ -192,6 +192,13 @@ class GroupsTest(Case):
         self.gives(False, "grid_holds", TWO, ("group", (2,), ((1,), (0,)), ((0,), (1,)), ((0,), (1,))))
         self.gives(True, "grid_holds", ((0,),), ("group", (), ((),), ((),), ((),)))
 
+    def test_groups_of_other_sizes(self):
+        # The sums are right at all rows and columns of the grid, but the group has more members.
+        names = ((0,), (2,), (1,), (3,))
+        self.gives(False, "grid_holds", TWO, ("group", (4,), names, names, names))
+        self.gives(False, "grid_holds", TWO, ("group", (), ((),), ((),), ((),)))
+        self.gives(False, "grid_holds", TWO, ("group", (4,), names[:2], names[:2], names[:2]))
+
     def test_little_time(self):
         start = time.process_time()
         for grid in some_grids(7):

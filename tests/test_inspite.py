@@ -143,6 +143,10 @@ class SpiteTest(Case):
             self.gives(False, "spite_holds", 2, sheet, w, ((2, 1), (1, 1)), ("out", (0, 0), relation))
             # With fewer positions than may be taken out it is right, too.
             self.gives(True, "spite_holds", 2, sheet[2:], w, ((2, 1), (1, 1)), ("out", (), relation))
+        for positions in ((1,), (0, 1), (1, 2), (1, 1), (2, 1), (1, 3), (-2,), (-2, 1)):
+            # The reading at the position 1 alone is wrong.
+            self.gives(positions in ((1,), (0, 1), (1, 2)), "spite_holds", 2, sheet[2:] + sheet[:1] + sheet[2:], 2,
+                       ((2, 1), (1, 1)), ("out", positions, relation))
         self.gives(True, "spite_holds", 2, sheet, 2, ((2, 1), (1, 1)), ("out", (0, 1), relation))
         self.gives(False, "spite_holds", 2, sheet, 2, ((0, 1), (1, 1)), ("out", (0, 1), relation))
 

@@ -137,6 +137,9 @@ class JudgeRingTest(Case):
             self.gives(False, "ring_holds", MANY, ("standings", told))
             self.gives(number == 1, "ring_holds", MANY, ("many", tuple(sorted(
                 self.call("standing_with", MANY, 0, (place, 1)) for place in range(7, 9 + (number == 1))))))
+        first, second, third = self.call("judge_ring", MANY)[1]
+        for told in ((first, first, second), (first, second, second), (second, first, third), (first, third, second)):
+            self.gives(False, "ring_holds", MANY, ("many", told))
         for m in range(-3, 6):
             for ring, right in ((NONE, 2), (BELOW, 0), (MANY, None), (ONE, None), (SINGLE, None), (TWO, None)):
                 self.gives(m == right, "ring_holds", ring, ("none", m))
@@ -164,7 +167,7 @@ class JudgeRingTest(Case):
     def test_errors(self):
         for thing in NO_RINGS:
             self.fails(BadRing, {"thing": thing}, "judge_ring", thing)
-            for other in (None, ("none", 0), ((1, 0),)):
+            for other in (None, ("none", 0), ((1, 0),), ("many", None), ("many", ())):
                 self.fails(BadRing, {"thing": thing}, "ring_holds", thing, other)
                 self.fails(BadRing, {"thing": thing}, "is_standing", thing, other)
 

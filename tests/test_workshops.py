@@ -13,7 +13,7 @@ from tests import naive_workshops
 from tests.helpers import Case, METHODS, ODD_VALUES, exact, outcome
 from tests.test_families import whole_relations
 from tests.test_places import NO_CHANGES, NO_PLACES
-from tests.test_shapes import FOUR, NO_SHAPES, SHAPES
+from tests.test_shapes import NO_SHAPES, SHAPES
 from tests.test_splits import random_relation
 from tests.test_standards import KNOT, changed_standard
 from tests.test_trees import TREE
