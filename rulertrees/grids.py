@@ -77,9 +77,9 @@ def standard_grid(orders):
 
 
 def sums_of(grid):
-    """The sums of the entries of a closed grid, each entry of the first column standing for its row.
+    """The sums of the entries of a closed grid, as a table.
 
-    Each entry of the first row stands for its column. So the entry that both have is the zero of the sums.
+    In the first column each entry stands for its row, in the first row for its column; so the entry of both is zero.
     """
     entries = range(len(grid))
     firsts = [row[0] for row in grid]
@@ -88,9 +88,9 @@ def sums_of(grid):
 
 
 def extensions(sums, zero, known, order):
-    """The known entries with all multiples of one more entry added to each, for each entry that has the order.
+    """For each entry that comes to zero if it is added so often as the order: the known entries plus its multiples.
 
-    None of the sums may stand twice among those.
+    Those are left out in which an entry stands twice.
     """
     found = []
     for entry in range(len(sums)):
@@ -104,7 +104,7 @@ def extensions(sums, zero, known, order):
 
 
 def namings(grid, orders):
-    """All ways to let the members of the group with some orders, ascending, be entries of a closed grid.
+    """All ways to give the members of the group with some orders, ascending, entries of a closed grid as names.
 
     Each way leads sums of members to sums of entries, so there are as many ways as automorphisms, or none.
     """
@@ -116,7 +116,7 @@ def namings(grid, orders):
 
 
 def group_of(grid):
-    """The orders of a closed grid, and all ways to let the members of the group be entries."""
+    """The orders of a closed grid, and all ways to give the members of the group entries as names."""
     told = [(orders, namings(grid, orders)) for orders in ALL_ORDERS]
     return [one for one in told if one[1]][0]
 

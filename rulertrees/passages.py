@@ -13,7 +13,10 @@ def check_tree_and_places(tree, places):
 
 
 def place_behind(tree, places, at, end):
-    """The one place that what stands behind an end of a node leaves for this end, None if it leaves every place."""
+    """The one place that what stands behind an end of a node leaves for this end, None if it leaves every place.
+
+    Behind an outer dial stands its own place.
+    """
     shape, cubes = tree
     if end < len(places):
         return places[end]
@@ -38,7 +41,10 @@ def reads(tree, places):
 
 
 def settled(cube, seen):
-    """Places at which a cube holds: the given ones, any that do for those that are None, and the given ones alone."""
+    """Places at which a cube holds: the given ones, and any that will do where None is given.
+
+    If no None is given, it holds at the given ones.
+    """
     free = [at for at, place in enumerate(seen) if place is None]
     if not free:
         return seen
@@ -54,7 +60,7 @@ def passage(tree, places):
         return None
     shape, cubes = tree
     found = dict(enumerate(places))
-    # Of the ends of each next node one is settled already; it is at a place that all behind the node leaves for it.
+    # One end of each next node is settled already, at a place that what stands behind the other ends leaves for it.
     for at in reached(shape, 0, None):
         seen = [found[end] if end in found else place_behind(tree, places, at, end) for end in shape[at]]
         for end, place in zip(shape[at], settled(cubes[at], seen)):
